@@ -1,0 +1,45 @@
+"""Papers, which tell an answer and what shows it, and denials."""
+
+from rimsewn.checks import is_listed
+
+
+def fixed(value):
+    """The value with each list in it as a tuple, all the way in."""
+    if is_listed(value):
+        return tuple([fixed(item) for item in value])
+    return value
+
+
+def same_paper(one, other):
+    """Whether any value equals a paper."""
+    if not isinstance(other, Paper) or one.__class__.__name__ != other.__class__.__name__:
+        return False
+    return one.word == other.word and one.parts == other.parts
+
+
+class Paper:
+    """A paper with a word and parts; it is true."""
+
+    def __init__(self, word, *parts):
+        self.word = word
+        self.parts = fixed(parts)
+
+    def __eq__(self, other):
+        return same_paper(self, other)
+
+    def __bool__(self):
+        return True
+
+
+class Denial(Paper):
+    """A paper that says no; it is false."""
+
+    def __init__(self, word, *parts):
+        self.word = word
+        self.parts = fixed(parts)
+
+    def __eq__(self, other):
+        return same_paper(self, other)
+
+    def __bool__(self):
+        return False
