@@ -1,0 +1,103 @@
+"""Each name of the interface stands in its file, with its parameters, and each method in its class."""
+
+import importlib
+import inspect
+import unittest
+
+FUNCTIONS = {
+    "checks": ["is_integer(value)", "is_within(value, least, most)", "is_kind(value)", "is_name(value)",
+               "is_row(value)", "first_twice(values)"],
+    "papers": ["fixed(value)"],
+    "grids": ["sides_of(kind)", "full_of(kind)"],
+    "places": ["round_from(skin, corner)", "places(skin)", "place_of(skin, corner)", "gathers(skin)", "rims(skin)",
+               "pieces(skin)", "surplus(skin)"],
+    "cells": ["sheet_of(kind, cells)", "laid(sheet)", "lies_flat(sheet)"],
+    "finer": ["finer(skin)", "finer_sheet(sheet)"],
+    "nestings": ["nestings(many)"],
+    "sums": ["gathered(rim, nesting)", "is_sewing(rim, nesting)", "too_much(rim, nesting)", "kind_of(rim, nesting)",
+             "tips_of(rim, nesting)"],
+    "sewn": ["sew(rim)", "many_sewings(rim)", "sewing_at(rim, number)", "number_of(rim, nesting)", "sewings(rim)",
+             "by_kinds(rim)"],
+    "check_sewn": ["shows_sewn(rim, value)"],
+    "answers": ["possible(book)", "word_of(book, saying)", "many(book)", "nth(book, number)",
+                "number_in(book, nesting)", "kinds(book)"],
+    "clashes": ["clash(book)"],
+    "offers": ["offer(book, sayings)"],
+}
+CLASSES = {
+    "papers": {"Paper": "(word, *parts)", "Denial": "(word, *parts)"},
+    "skins": {"Skin": "(kind, faces, seams=())"},
+    "sheets": {"Sheet": "(skin)"},
+    "rims": {"Rim": "(kind, amounts)"},
+    "nestings": {"Nesting": "(partners)"},
+    "sewn": {"Sewing": "(partners)", "Unsewn": "(rows)"},
+    "sayings": {"Saying": None, "Joined": "(one, other)", "Meet": "(one, other)", "Bears": "(corner, low, high)",
+                "Tips": "(low, high)", "Places": "(amount, low, high)", "Not": "(saying)"},
+    "books": {"Book": "(rim, facts=(), colours=None)"},
+    "answers": {"Always": "(rows)", "Never": "(rows)", "Both": "(one, other)"},
+    "clashes": {"Clash": "(numbers, rows, spared)"},
+    "offers": {"Offer": "(number, counts)"},
+}
+SAYING = ["holds(rim, nesting)", "__invert__()", "__eq__(other)", "__str__()"]
+METHODS = {
+    "Paper": ["__eq__(other)"],
+    "Denial": ["__eq__(other)"],
+    "Skin": ["mate(side)", "next(side)", "back(side)", "face(side)", "with_seams(seams)", "mirrored()",
+             "__eq__(other)", "__str__()", "read(text)"],
+    "Sheet": ["__len__()", "single(kind)", "put_on(edge)", "tucked(corner)", "taken(face)", "mirrored()",
+              "__eq__(other)", "__str__()", "read(text)"],
+    "Rim": ["__len__()", "of(sheet)", "turned(many)", "mirrored()", "__eq__(other)", "__str__()", "read(text)"],
+    "Nesting": ["__len__()", "meets(one, other)", "turned(many)", "mirrored()", "__eq__(other)", "__str__()",
+                "read(text)"],
+    "Saying": SAYING + ["read(text)"],
+    "Joined": SAYING, "Meet": SAYING, "Bears": SAYING, "Tips": SAYING, "Places": SAYING, "Not": SAYING,
+    "Book": ["__len__()", "with_fact(saying)", "without(numbers)", "keeps(nesting)", "__eq__(other)"],
+}
+STATIC = ("single", "of", "read")
+
+
+def signature(function):
+    """The parameters of a function, as they are written."""
+    return str(inspect.signature(function))
+
+
+class InterfaceTest(unittest.TestCase):
+    def test_functions(self):
+        for module_name, told in FUNCTIONS.items():
+            module = importlib.import_module("rimsewn." + module_name)
+            for row in told:
+                function = getattr(module, row.partition("(")[0])
+                self.assertTrue(inspect.isfunction(function))
+                self.assertEqual(function.__module__, module.__name__)
+                self.assertEqual(function.__name__ + signature(function), row)
+
+    def test_classes(self):
+        for module_name, told in CLASSES.items():
+            module = importlib.import_module("rimsewn." + module_name)
+            for name, parameters in told.items():
+                found = getattr(module, name)
+                self.assertTrue(inspect.isclass(found))
+                self.assertEqual((found.__module__, found.__name__), (module.__name__, name))
+                if parameters is not None:
+                    self.assertEqual(signature(found), parameters)
+
+    def test_methods_stand_in_their_classes(self):
+        for module_name, told in CLASSES.items():
+            module = importlib.import_module("rimsewn." + module_name)
+            for name in told:
+                for row in METHODS.get(name, []):
+                    method = row.partition("(")[0]
+                    held = vars(getattr(module, name))[method]
+                    if method in STATIC:
+                        self.assertIsInstance(held, staticmethod)
+                        self.assertEqual(method + signature(held.__func__), row)
+                    else:
+                        self.assertEqual(method + signature(held).replace("(self, ", "(").replace("(self)", "()"), row)
+
+    def test_kinds(self):
+        from rimsewn.grids import KINDS
+        self.assertEqual(KINDS, ("square", "triangle"))
+
+
+if __name__ == "__main__":
+    unittest.main()
