@@ -46,21 +46,21 @@ def count_ahead(stock, low, high, weights, partners):
 def listed_parts(stock, low, high, weights):
     """Yields partners and entry of each nesting of (low, high) whose entry has a weight, in order."""
     terms, table = stock.terms, stock.table
+    if not weights:
+        return
     if low == high:
-        if weights:
-            yield ((), no_edges(terms))
+        yield ((), no_edges(terms))
         return
     first = low + 1
     for top in range(low + 2, high + 1, 2):
         last = top - 1
         within = inner_weights(terms, table, low, top, high, weights)
-        if within:
-            for inner, entry in listed_parts(stock, first, last, within):
-                kind = finished(terms, low, top, entry)
-                behind = outer_weights(terms, table, top, high, kind, weights)
-                for outer, other in listed_parts(stock, top, high, behind):
-                    whole = put_together(terms, top, high, kind, other)
-                    yield ((last,) + inner + (low,) + outer, whole)
+        for inner, entry in listed_parts(stock, first, last, within):
+            kind = finished(terms, low, top, entry)
+            behind = outer_weights(terms, table, top, high, kind, weights)
+            for outer, other in listed_parts(stock, top, high, behind):
+                whole = put_together(terms, top, high, kind, other)
+                yield ((last,) + inner + (low,) + outer, whole)
 
 
 class Stock:
