@@ -1,6 +1,6 @@
 """What is sure of all sewings that keep a book."""
 
-from rimsewn.books import need_book, need_book_fit, need_marks
+from rimsewn.books import need_book, need_marks
 from rimsewn.errors import BadNesting, Impossible
 from rimsewn.orders import Stock
 from rimsewn.papers import Denial, Paper
@@ -88,7 +88,6 @@ def nth(book, number):
 def number_in(book, nesting):
     """The number of a nesting that keeps the book."""
     need_book(book)
-    need_book_fit(book, nesting)
     if not book.keeps(nesting):
         raise BadNesting("kept")
     return book_stock(book, ()).number_for(nesting.partners)

@@ -1,8 +1,7 @@
 """Books: a rim, facts about its sewings, and perhaps colours of its edges."""
 
 from rimsewn.checks import first_twice, is_listed, is_row, is_within
-from rimsewn.errors import BadBook, BadSaying, Misfit, NoFact, TooMany, Twice
-from rimsewn.nestings import need_nesting
+from rimsewn.errors import BadBook, BadSaying, NoFact, TooMany, Twice
 from rimsewn.rims import need_rim
 from rimsewn.sayings import Saying, need_saying
 from rimsewn.sums import is_sewing
@@ -70,7 +69,6 @@ class Book:
 
     def keeps(self, nesting):
         """Whether the nesting is a sewing that keeps the book."""
-        need_book_fit(self, nesting)
         if not is_sewing(self.rim, nesting) or not same_colours(self.colours, nesting):
             return False
         return all([fact.holds(self.rim, nesting) for fact in self.facts])
@@ -84,10 +82,3 @@ def need_book(book):
     """Refuses what is no book."""
     if not isinstance(book, Book):
         raise BadBook("book")
-
-
-def need_book_fit(book, nesting):
-    """Refuses what is no nesting, or one of another number of edges."""
-    need_nesting(nesting)
-    if len(nesting) != len(book.rim):
-        raise Misfit("edges")

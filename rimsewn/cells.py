@@ -1,10 +1,10 @@
 """Cells: where the faces of a sheet can lie in the plane."""
 
 from rimsewn.checks import first_twice, is_listed, is_within
-from rimsewn.errors import BadCells, TooMany, Twice
+from rimsewn.errors import BadCells, Twice
 from rimsewn.grids import need_kind, sides_of
 from rimsewn.sheets import Sheet, need_sheet
-from rimsewn.skins import MOST_FACES, Skin
+from rimsewn.skins import Skin
 
 FARTHEST = 99
 # Side k of a cell lies on the cell beside it that is this step away.
@@ -41,8 +41,6 @@ def sheet_of(kind, cells):
     twice = first_twice(told)
     if twice is not None:
         raise Twice(twice)
-    if len(told) > MOST_FACES:
-        raise TooMany("faces", MOST_FACES)
     return Sheet(Skin(kind, len(told), seams_of(kind, told)))
 
 

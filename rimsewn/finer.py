@@ -1,8 +1,7 @@
 """Finer skins, in which each face is cut in four."""
 
-from rimsewn.errors import TooMany
 from rimsewn.sheets import Sheet, need_sheet
-from rimsewn.skins import MOST_FACES, Skin, need_skin
+from rimsewn.skins import Skin, need_skin
 
 
 def seams_within(face, turn):
@@ -23,8 +22,6 @@ def halves(skin, side):
 def finer(skin):
     """The finer Skin."""
     need_skin(skin)
-    if 4 * skin.faces > MOST_FACES:
-        raise TooMany("faces", MOST_FACES)
     seams = []
     for face in range(skin.faces):
         seams.extend(seams_within(face, skin.turn))

@@ -46,10 +46,6 @@ class Saying:
         """The rim corners that it names, if it is of rim corners."""
         return ()
 
-    def is_numbers(self):
-        """Whether it is of numbers."""
-        return False
-
     def holds(self, rim, nesting):
         """Whether it holds for a nesting of the rim."""
         raise NotImplementedError("a saying of no class")
@@ -178,10 +174,6 @@ class Tips(Saying):
     def need_named(self, rim):
         """It names nothing that a rim could lack."""
 
-    def is_numbers(self):
-        """It is of numbers."""
-        return True
-
     def holds(self, rim, nesting):
         """Whether so many places are tips."""
         return self.low <= len(tips_of(rim, nesting)) <= self.high
@@ -211,10 +203,6 @@ class Places(Saying):
         """Refuses an amount that is not below a full round."""
         if self.amount >= rim.full:
             raise BadSaying("amount")
-
-    def is_numbers(self):
-        """It is of numbers."""
-        return True
 
     def holds(self, rim, nesting):
         """Whether so many places gather just the amount."""
@@ -248,10 +236,6 @@ class Not(Saying):
     def corners(self):
         """The rim corners that its saying names."""
         return self.saying.corners()
-
-    def is_numbers(self):
-        """Whether its saying is of numbers."""
-        return self.saying.is_numbers()
 
     def holds(self, rim, nesting):
         """Whether its saying does not hold."""

@@ -6,7 +6,7 @@ from rimsewn.nestings import Nesting
 from rimsewn.orders import Stock, listed_parts
 from rimsewn.papers import Denial, Paper
 from rimsewn.rims import need_rim
-from rimsewn.sums import is_sewing, need_fit
+from rimsewn.sums import is_sewing
 from rimsewn.terms import Terms
 
 
@@ -63,7 +63,6 @@ def sewing_at(rim, number):
 
 def number_of(rim, nesting):
     """The number of a sewing, in the order of partners."""
-    need_fit(rim, nesting)
     if not is_sewing(rim, nesting):
         raise BadNesting("sewing")
     return stock_of(rim, False).number_for(nesting.partners)

@@ -2,7 +2,6 @@
 
 from rimsewn.checks import is_within
 from rimsewn.errors import BadSheet, BadText, NoCorner, NoEdge, NoFace
-from rimsewn.grids import need_kind
 from rimsewn.places import pieces, places, rims, surplus
 from rimsewn.skins import Skin, need_skin
 from rimsewn.texts import words_of
@@ -40,7 +39,6 @@ class Sheet:
     @staticmethod
     def single(kind):
         """The sheet of one face."""
-        need_kind(kind)
         return Sheet(Skin(kind, 1))
 
     def put_on(self, edge):

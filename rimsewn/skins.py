@@ -87,9 +87,6 @@ class Skin:
     def with_seams(self, seams):
         """The Skin with these seams, too."""
         need_seams(seams, self.sides)
-        twice = first_twice(sides_in(self.seams) + sides_in(seams))
-        if twice is not None:
-            raise Twice(twice)
         return Skin(self.kind, self.faces, self.seams + tuple(seams))
 
     def mirrored(self):

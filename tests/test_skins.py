@@ -51,7 +51,7 @@ class SkinsTest(unittest.TestCase):
         for value in ODD_VALUES + (0, -3):
             if not (isinstance(value, int) and not isinstance(value, bool) and value > 0):
                 self.assertEqual(raised(Skin, "square", value, None), ("BadSkin", "faces"))
-        for value in (None, 0, "", "01", {}, {0: 1}, [0], [(0,)], [(0, 1, 2)], [(0, 0)], [(0, 4)], [(-1, 0)], [(0, True)],
+        for value in (None, 0, "", "01", {}, {0: 1}, [0], [(0,)], [(0, 1, 2)], [(0, 0)], [(0, 4)], [(4, 0)], [(-1, 0)], [(0, -1)], [(0, True)],
                       [(0, None)], ["01"], [(0, 1), None], [[0, 1.0]], range(0), [{0, 1}]):
             self.assertEqual(raised(Skin, "square", 1, value), ("BadSkin", "seams"))
         self.assertEqual(raised(Skin, "square", 25, [(0, 100)]), ("BadSkin", "seams"))
