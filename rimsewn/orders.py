@@ -1,4 +1,8 @@
-"""Sewings in the order of partners, read off a table."""
+"""Sewings in the order of partners, read off a table.
+
+A number counts ways: the nestings of a stretch in their order, each as often as its weight tells. So
+what is left of it, when the edges within are joined, counts the ways for the edges behind.
+"""
 
 from rimsewn.stretches import filled, finished, fitting, inner_weights, no_edges, outer_weights
 from rimsewn.stretches import put_together, stretches_of, weighed, whole_kind

@@ -122,6 +122,20 @@ class LanguageTest(unittest.TestCase):
                 if isinstance(node, ast.FunctionDef) and node.name.startswith("__"):
                     self.assertIn(node.name, DUNDERS, path)
 
+    def test_own_names_are_free(self):
+        held = set()
+        for value in ("", 0, [], {}, set(), b"", ()):
+            held |= {name for name in dir(value) if not name.startswith("__")}
+        for path, tree in trees():
+            self.assertFalse(defined(tree) & BUILTINS, path)
+            methods, attributes = set(), set()
+            for node in ast.walk(tree):
+                if isinstance(node, ast.ClassDef):
+                    methods |= {row.name for row in node.body if isinstance(row, ast.FunctionDef)}
+                if isinstance(node, ast.Attribute) and isinstance(node.ctx, ast.Store):
+                    attributes.add(node.attr)
+            self.assertFalse((methods | attributes) & held, path)
+
     def test_methods(self):
         own = {node.name for path, tree in trees() for node in ast.walk(tree) if isinstance(node, ast.FunctionDef)}
         for path, tree in trees():

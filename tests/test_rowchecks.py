@@ -73,6 +73,12 @@ class RowChecksTest(unittest.TestCase):
             self.assertTrue(put_in(4, (), zero))
             for marks in ((4, 2), (2, 2), (1,), (5,), (0,), (2.0,), (True,), None, "2"):
                 self.assertFalse(put_in(4, marks, zero), marks)
+            # Mark 4 ends the stretch (2, 4), mark 2 begins it: neither is within.
+            at = [row[:2] for row in rows].index((2, 4))
+            self.assertTrue(put_in(4, (), zero))
+            for marks in ((4,), (2,), (2, 4)):
+                self.assertFalse(put_in(4, marks, zero))
+            at = [row[:2] for row in rows].index((1, 5))
             if 3 not in book.marks:
                 self.assertFalse(put_in(4, (3,), zero))
             if more:
