@@ -16,10 +16,14 @@ class Clash(Paper):
         self.spared = self.parts[2]
 
 
+def terms_with(book, numbers):
+    """The terms of the book of just these facts."""
+    return Terms(book.rim, [book.facts[number] for number in numbers], book.colours, False)
+
+
 def stock_with(book, numbers):
     """The stock of the sewings that keep the book of just these facts."""
-    facts = [book.facts[number] for number in numbers]
-    return Stock(Terms(book.rim, facts, book.colours, False))
+    return Stock(terms_with(book, numbers))
 
 
 def others_of(numbers, number):

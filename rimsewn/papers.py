@@ -1,6 +1,6 @@
 """Papers, which tell an answer and what shows it, and denials."""
 
-from rimsewn.checks import is_listed
+from rimsewn.checks import is_integer, is_listed
 
 
 def fixed(value):
@@ -8,6 +8,15 @@ def fixed(value):
     if is_listed(value):
         return tuple([fixed(item) for item in value])
     return value
+
+
+def exactly(one, other):
+    """Whether two values tell the same integers and words; True and False stand for no number."""
+    if is_listed(one) and is_listed(other):
+        return len(one) == len(other) and all([exactly(own, its) for own, its in zip(one, other)])
+    if is_integer(one) and is_integer(other):
+        return one == other
+    return isinstance(one, str) and isinstance(other, str) and one == other
 
 
 def same_paper(one, other):

@@ -36,6 +36,11 @@ def mates_of(seams, sides):
     return tuple(mates)
 
 
+def turned_sides(sides, turn, by):
+    """For each side the one that stands so many places behind it in its face."""
+    return tuple([side // turn * turn + (side + by) % turn for side in range(sides)])
+
+
 class Skin:
     """A kind of grid, a number of faces, and seams."""
 
@@ -57,6 +62,9 @@ class Skin:
         self.sides = faces * turn
         self.seams = tuple(sorted([(min(seam), max(seam)) for seam in seams]))
         self.mates = mates_of(seams, self.sides)
+        # Walks ask for these so often that they are told beforehand.
+        self.nexts = turned_sides(self.sides, turn, 1)
+        self.backs = turned_sides(self.sides, turn, turn - 1)
         self.free = tuple([side for side in range(self.sides) if self.mates[side] is None])
 
     def need_side(self, side):
@@ -72,12 +80,12 @@ class Skin:
     def next(self, side):
         """The side behind this one in its face, counterclockwise."""
         self.need_side(side)
-        return side + 1 if (side + 1) % self.turn != 0 else side + 1 - self.turn
+        return self.nexts[side]
 
     def back(self, side):
         """The side ahead of this one in its face."""
         self.need_side(side)
-        return side - 1 if side % self.turn != 0 else side - 1 + self.turn
+        return self.backs[side]
 
     def face(self, side):
         """The face of a side."""

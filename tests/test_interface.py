@@ -23,6 +23,27 @@ FUNCTIONS = {
                 "number_in(book, nesting)", "kinds(book)"],
     "clashes": ["clash(book)"],
     "offers": ["offer(book, sayings)"],
+    "pairtables": ["joined_words(book)", "met_words(book)"],
+    "check_books": ["shows_possible(book, value)", "shows_word(book, saying, value)", "shows_clash(book, value)",
+                    "shows_offer(book, sayings, value)"],
+    "bodies": ["sewn(sheet, nesting)"],
+    "codes": ["mates_from(body, side)", "code_of(body)", "first_form(body)", "alike_by_faces(one, other, mirrored=False)"],
+    "turnings": ["turnings(body)", "mirrors(body)"],
+    "listed": ["bodies_of(kind, faces)", "tallies_of(kind, faces)"],
+    "check_bodies": ["shows_alike(one, other, mirrored, value)"],
+    "vectors": ["square_of(kind, vector)", "product(kind, one, other)", "turned(kind, vector, many)",
+                "flipped(kind, vector)", "times(kind, one, other)", "quotient(kind, one, other)", "vectors_of(kind, square)"],
+    "walks": ["walked(body, corner, a, b)"],
+    "roads": ["road(body, one, other)", "squares(body)", "farthest(body)"],
+    "belts": ["belts(body)"],
+    "check_walks": ["shows_walk(body, corner, a, b, value)", "shows_road(body, one, other, value)"],
+    "slants": ["slanted(body, a, b)"],
+    "overlays": ["laid_on(one, other, overlay, mirrored=False)", "places_on(one, other, overlay, mirrored=False)"],
+    "truth": ["in_truth(one, other, mirrored=False)"],
+    "check_truth": ["shows_truth(one, other, mirrored, value)"],
+    "boxes": ["box(a, b, c)", "boxes_of(faces)"],
+    "plates": ["doubled(sheet)", "plate(body)"],
+    "named": ["named(body)"],
 }
 CLASSES = {
     "papers": {"Paper": "(word, *parts)", "Denial": "(word, *parts)"},
@@ -37,6 +58,13 @@ CLASSES = {
     "answers": {"Always": "(rows)", "Never": "(rows)", "Both": "(one, other)"},
     "clashes": {"Clash": "(numbers, rows, spared)"},
     "offers": {"Offer": "(number, counts)"},
+    "bodies": {"Body": "(skin)"},
+    "codes": {"Renaming": "(sides)", "Unlike": "(code, other)"},
+    "walks": {"Came": "(place, corner, sides)", "Ended": "(place, part)"},
+    "roads": {"Road": "(corner, a, b)"},
+    "overlays": {"Overlay": "(corner, vector, other, its)", "Apart": "(corner, vector, failings)"},
+    "plates": {"Plate": "(overlay)", "NoPlate": "(corner, vector, failings)"},
+    "named": {"Boxed": "(sides, overlay)", "Other": "(aparts, noplate)"},
 }
 SAYING = ["holds(rim, nesting)", "__invert__()", "__eq__(other)", "__str__()"]
 METHODS = {
@@ -51,6 +79,7 @@ METHODS = {
                 "read(text)"],
     "Saying": SAYING + ["read(text)"],
     "Joined": SAYING, "Meet": SAYING, "Bears": SAYING, "Tips": SAYING, "Places": SAYING, "Not": SAYING,
+    "Body": ["place_of(corner)", "mirrored()", "renamed(faces, shifts)", "__eq__(other)", "__str__()", "read(text)"],
     "Book": ["__len__()", "with_fact(saying)", "without(numbers)", "keeps(nesting)", "__eq__(other)"],
 }
 STATIC = ("single", "of", "read")

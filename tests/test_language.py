@@ -136,6 +136,37 @@ class LanguageTest(unittest.TestCase):
                     attributes.add(node.attr)
             self.assertFalse((methods | attributes) & held, path)
 
+    def test_no_name_is_a_method_and_an_attribute(self):
+        methods, attributes = set(), set()
+        for path, tree in trees():
+            for node in ast.walk(tree):
+                if isinstance(node, ast.ClassDef):
+                    methods |= {row.name for row in node.body if isinstance(row, ast.FunctionDef)}
+                if isinstance(node, ast.Attribute) and isinstance(node.ctx, ast.Store):
+                    attributes.add(node.attr)
+        self.assertFalse(methods & attributes)
+
+    def test_generators_have_names_of_their_own(self):
+        names = []
+        makers = set()
+        for path, tree in trees():
+            for node in ast.walk(tree):
+                if isinstance(node, ast.FunctionDef):
+                    names.append(node.name)
+                    if any(isinstance(inner, ast.Yield) for inner in ast.walk(node)):
+                        makers.add(node.name)
+        for name in makers:
+            self.assertEqual(names.count(name), 1, name)
+
+    def test_names_of_the_library_are_only_called(self):
+        for path, tree in trees():
+            taken = {alias.name for node in tree.body if isinstance(node, ast.ImportFrom) and node.module in LIBRARY
+                     for alias in node.names}
+            above = parents(tree)
+            for node in ast.walk(tree):
+                if isinstance(node, ast.Name) and node.id in taken:
+                    self.assertTrue(isinstance(above[node], ast.Call) and above[node].func is node, (path, node.lineno))
+
     def test_methods(self):
         own = {node.name for path, tree in trees() for node in ast.walk(tree) if isinstance(node, ast.FunctionDef)}
         for path, tree in trees():
@@ -184,8 +215,10 @@ class LanguageTest(unittest.TestCase):
         for path, tree in trees():
             above = parents(tree)
             for node in ast.walk(tree):
-                if called(node) in makers:
+                if called(node) in makers or called(node) == "range":
                     parent = above[node]
+                    if called(node) == "range" and isinstance(parent, ast.Assign) and isinstance(parent.targets[0], ast.Name):
+                        continue
                     loops = isinstance(parent, (ast.For, ast.comprehension)) and parent.iter is node
                     self.assertTrue(loops or called(parent) in TAKERS, (path, node.lineno))
 

@@ -4,13 +4,23 @@ import unittest
 
 from rimsewn.answers import Always, Both, Never
 from rimsewn.clashes import Clash
+from rimsewn.codes import Renaming, Unlike
+from rimsewn.named import Boxed, Other
 from rimsewn.offers import Offer
-from rimsewn.papers import Denial, Paper, fixed
+from rimsewn.overlays import Apart, Overlay
+from rimsewn.papers import Denial, Paper, exactly, fixed
+from rimsewn.plates import NoPlate, Plate
+from rimsewn.roads import Road
 from rimsewn.sewn import Sewing, Unsewn
+from rimsewn.walks import Came, Ended
 
 CLASSES = {Sewing: ("partners",), Unsewn: ("rows",), Always: ("rows",), Never: ("rows",), Both: ("one", "other"),
-           Clash: ("numbers", "rows", "spared"), Offer: ("number", "counts")}
-DENIALS = (Unsewn, Never)
+           Clash: ("numbers", "rows", "spared"), Offer: ("number", "counts"), Renaming: ("sides",),
+           Unlike: ("code", "other"), Came: ("place", "corner", "sides"), Ended: ("place", "part"),
+           Road: ("corner", "a", "b"), Overlay: ("corner", "vector", "other", "its"),
+           Apart: ("corner", "vector", "failings"), Plate: ("overlay",), NoPlate: ("corner", "vector", "failings"),
+           Boxed: ("sides", "overlay"), Other: ("aparts", "noplate")}
+DENIALS = (Unsewn, Never, Unlike, Ended, Apart, NoPlate, Other)
 VALUES = (None, 0, True, "text", [1, [2, (3, [])]], [], {"a": [1]}, object())
 
 
@@ -77,6 +87,22 @@ class PapersTest(unittest.TestCase):
             paper = made(*range(len(names)))
             self.assertEqual([getattr(paper, name) for name in names], list(range(len(names))))
             self.assertEqual(paper.parts, tuple(range(len(names))))
+
+    def test_papers_within_papers(self):
+        overlay = Overlay(0, [1, 0], 0, [1, 0])
+        self.assertTrue(Plate(overlay) == Plate(Overlay(0, (1, 0), 0, (1, 0))))
+        self.assertFalse(Plate(overlay) == Plate(Overlay(0, (1, 0), 1, (1, 0))))
+        self.assertIs(Plate(overlay).overlay, overlay)
+        apart = Apart(0, [1, 0], [("end", 0)])
+        self.assertTrue(Other([apart], NoPlate(0, [1, 0], [])) == Other((Apart(0, (1, 0), (("end", 0),)),), NoPlate(0, (1, 0), ())))
+        self.assertIs(Other([apart], None).aparts[0], apart)
+
+    def test_exactly(self):
+        for one, other in ((0, 0), ("a", "a"), ([1, (2, [])], (1, [2, ()])), ([], ()), (10 ** 40, 10 ** 40)):
+            self.assertIs(exactly(one, other), True)
+        for one, other in ((0, 1), (1, True), (False, 0), (1, 1.0), ("1", 1), ([1], 1), ([1], [1, 1]), ([1], [[1]]), (None, None),
+                           ({}, {}), ("", ()), ([True], [1]), (Paper("a"), Paper("a"))):
+            self.assertIs(exactly(one, other), False)
 
     def test_unlike_classes_are_unequal(self):
         self.assertFalse(Sewing([1, 0]) == Paper("sewing", [1, 0]))
