@@ -1,4 +1,4 @@
-"""Layings: how a start lays the faces of one body on another one, and where it fails."""
+"""Layings: how a start lays the faces of one body on another one."""
 
 from rimsewn.straights import corners_in, rays_of, share_of, straight, strides_of, turns_of
 from rimsewn.vectors import both, flip, length_of, spun
@@ -101,7 +101,8 @@ def lay_others(laying):
     order = [laying.walk[0] // one.turn]
     at = 0
     while at < len(order):
-        for side in range(order[at] * one.turn, (order[at] + 1) * one.turn):
+        first = order[at] * one.turn
+        for side in range(first, first + one.turn):
             face = one.skin.mates[side] // one.turn
             if laying.laid[face] is None:
                 arrival = laying.over_side(side)

@@ -40,11 +40,13 @@ def first_walk(body, one, other, vectors):
 def road(body, one, other):
     """The first Road, by its corner, then by a, between two places."""
     need_places(body, one, other)
+    # There always is a road, by a square within the bound.
     for _, vectors in by_squares(body.kind, MOST_SQUARE):
         found = first_walk(body, one, other, vectors)
         if found is not None:
             corner, vector = found
             return Road(corner, vector[0], vector[1])
+    return None
 
 
 def squares_from(body, one):

@@ -29,11 +29,13 @@ def is_tip_walk(body, corner, vector):
 
 def tip_walk(body):
     """The corner and the vector of a walk of the least square that comes from a tip to a tip."""
+    # There always is one, by a square within the bound.
     for _, vectors in by_squares(body.kind, MOST_SQUARE):
         for corner in range(body.skin.sides):
             for vector in vectors:
                 if leads_to_tip(body, corner, vector):
                     return corner, vector
+    return None
 
 
 def starts_from(body, places, square):

@@ -33,6 +33,8 @@ class BodyTest(unittest.TestCase):
             self.assertEqual(raised(Body, value), ("BadSkin", "skin"))
         self.assertEqual(raised(Body, Skin("square", 1)), ("BadBody", "open"))
         self.assertEqual(raised(Body, Skin("square", 2, [(0, 1), (2, 3), (4, 5)])), ("BadBody", "open"))
+        self.assertEqual(raised(Body, Skin("triangle", 1, [(0, 1)])), ("BadBody", "open"))
+        self.assertEqual(raised(Body, Skin("triangle", 3, [(0, 3), (1, 5), (2, 6), (4, 7)])), ("BadBody", "open"))
         self.assertEqual(raised(Body, Skin("square", 2, [(0, 1), (2, 3), (4, 5), (6, 7)])), ("BadBody", "pieces"))
         self.assertEqual(raised(Body, Skin("square", 1, [(0, 2), (1, 3)])), ("BadBody", "ball"))
         # A ring of faces and a ball: two pieces come first.

@@ -27,6 +27,14 @@ class Sewing2(Sewing):
     """A class below that of the right papers."""
 
 
+class Unsewn2(Unsewn):
+    """A class below that of the right papers."""
+
+
+class Never2(Never):
+    """A class below that of the right papers."""
+
+
 class Always2(Always):
     """A class below that of the right papers."""
 
@@ -112,7 +120,7 @@ class PossibleTest(unittest.TestCase):
     def test_other_values(self):
         book = Book(DOMINO, [Bears(1, 3, 4)])
         right = possible(book).partners
-        for value in ODD_VALUES + (right, Sewing2(right), Paper("sewing", right), Unsewn(right), Denial("unsewn", ROWS_OF_NONE),
+        for value in ODD_VALUES + (right, Sewing2(right), Paper("sewing", right), Unsewn(right), Denial("unsewn", ROWS_OF_NONE), Unsewn2(ROWS_OF_NONE),
                                    Never(ROWS_OF_NONE), Always(ROWS_OF_NONE), Sewing, Unsewn):
             self.assertIs(shows_possible(book, value), False)
             self.assertIs(shows_possible(NONE, value), False)
@@ -188,8 +196,12 @@ class WordTest(unittest.TestCase):
         book = Book(DOMINO, [Bears(1, 3, 4)])
         rows = word_of(book, Meet(0, 2)).rows
         self.assertIs(shows_word(book, Meet(0, 2), Never(rows)), True)
-        for value in ODD_VALUES + (rows, Always(rows), Always2(rows), Unsewn(rows), Denial("never", rows), Both(rows, rows), Never):
+        for value in ODD_VALUES + (rows, Always(rows), Never2(rows), Unsewn(rows), Denial("never", rows), Both(rows, rows), Never):
             self.assertIs(shows_word(book, Meet(0, 2), value), False)
+        rows = word_of(book, ~Meet(0, 2)).rows
+        self.assertIs(shows_word(book, ~Meet(0, 2), Always(rows)), True)
+        for value in (rows, Never(rows), Always2(rows), Unsewn(rows), Paper("always", rows)):
+            self.assertIs(shows_word(book, ~Meet(0, 2), value), False)
         book = Book(DOMINO)
         one, other = word_of(book, Joined(0, 1)).parts
         self.assertIs(shows_word(book, Joined(0, 1), Both(one, other)), True)
@@ -240,6 +252,10 @@ class ClashTest(unittest.TestCase):
         self.assertIs(shows_clash(book, Clash(list(numbers), rows, [list(row) for row in spared])), True)
         for value in ((2, 0), (0, 1), (0,), (2,), (0, 0), (0, 1, 2), (0, 3), (-1, 2), (False, 2), (0.0, 2), (), None, "02", 0, ((0, 2),), {}):
             self.assertIs(shows_clash(book, Clash(value, rows, spared)), False, value)
+        # Out of order, or told twice, though all else is right.
+        self.assertIs(shows_clash(book, Clash((2, 0), rows, spared[::-1])), False)
+        self.assertIs(shows_clash(book, Clash((0, 0, 2), rows, (spared[0], spared[0], spared[1]))), False)
+        self.assertIs(shows_clash(book, Clash((0, 2, 2), rows, (spared[0], spared[1], spared[1]))), False)
         for value in (spared[::-1], spared[:1], spared + spared[:1], (spared[0], spared[0]), (spared[0], None), ((1, 0), spared[1]), None,
                       (), (spared[1], spared[1]), "ab", {}, (spared[0], (True,) + spared[1][1:])):
             self.assertIs(shows_clash(book, Clash(numbers, rows, value)), False, value)

@@ -193,6 +193,17 @@ class ApartTest(unittest.TestCase):
             self.assertEqual(told[0], "came")
             self.assertIs(shows_truth(CAP, LEFT, False, Apart(1, vector, [("faces", 0)])), True)
 
+    def test_a_square_of_400(self):
+        # On the cap, cut in sixteen, the walk by four times (3, 4) goes as that by (3, 4) on the cap.
+        fine = Body(finer(finer(CAP.skin)))
+        walks = [walk for walk in ((corner, (12, 16)) for corner in range(fine.skin.sides))
+                 if fine.place_of(walk[0]) in fine.tips and plain_walk(fine, *walk[:1], *walk[1])[0] == "came"]
+        self.assertTrue(walks)
+        for corner, vector in walks:
+            self.assertIs(shows_truth(fine, fine, False, Overlay(corner, vector, corner, vector)), True)
+            self.assertIs(shows_truth(fine, CAP, False, Apart(corner, vector, [("faces", 0)])), True)
+            self.assertIs(shows_truth(fine, fine, False, Apart(corner, vector, [])), False)
+
     def test_unlike_numbers_of_faces(self):
         for one, other in ((CAP, LEFT), (LEFT, CAP)):
             walk = plain_tip_walks(one, 9)[-1]
