@@ -6,13 +6,18 @@ from rimsewn.codes import Renaming, Unlike, code_of
 from rimsewn.papers import exactly
 
 
+def goes_to(sides, mate):
+    """The side to which a mate goes; a free side has none."""
+    return None if mate is None else sides[mate]
+
+
 def renames(one, other, mirrored, sides):
-    """Whether any value is the sides of a renaming of one onto other, mirrored if that is asked."""
-    if not is_row(sides) or len(sides) != one.skin.sides or sorted(sides) != list(range(other.skin.sides)):
+    """Whether any value is the sides of a renaming of one skin onto another one, mirrored if that is asked."""
+    if not is_row(sides) or len(sides) != one.sides or sorted(sides) != list(range(other.sides)):
         return False
-    behind = other.skin.backs if mirrored else other.skin.nexts
-    return all([sides[one.skin.nexts[side]] == behind[sides[side]]
-                and sides[one.skin.mates[side]] == other.skin.mates[sides[side]] for side in range(len(sides))])
+    behind = other.backs if mirrored else other.nexts
+    return all([sides[one.nexts[side]] == behind[sides[side]]
+                and goes_to(sides, one.mates[side]) == other.mates[sides[side]] for side in range(len(sides))])
 
 
 def parts_by_codes(one, other, mirrored, value):
@@ -26,7 +31,7 @@ def shows_alike(one, other, mirrored, value):
     need_bodies(one, other)
     need_one_kind(one, other)
     if isinstance(value, Renaming) and value.__class__.__name__ == "Renaming":
-        return renames(one, other, mirrored, value.sides)
+        return renames(one.skin, other.skin, mirrored, value.sides)
     if isinstance(value, Unlike) and value.__class__.__name__ == "Unlike":
         return parts_by_codes(one, other, mirrored, value)
     return False

@@ -3,7 +3,7 @@
 from rimsewn.answers import Always, Both, Never, book_terms
 from rimsewn.books import Book, need_book, need_marks
 from rimsewn.check_sewn import nesting_or_none
-from rimsewn.checks import is_listed, is_row, is_within
+from rimsewn.checks import are_numbers, is_listed
 from rimsewn.clashes import Clash, others_of, terms_with
 from rimsewn.offers import Offer, counted, need_few, need_told
 from rimsewn.papers import exactly
@@ -51,13 +51,6 @@ def shows_word(book, saying, value):
     if isinstance(value, Both) and value.__class__.__name__ == "Both":
         return shows_both(book, saying, value)
     return False
-
-
-def are_numbers(value, many):
-    """Whether any value tells ascending numbers below many."""
-    if not is_row(value) or not all([is_within(number, 0, many - 1) for number in value]):
-        return False
-    return all([value[at - 1] < value[at] for at in range(1, len(value))])
 
 
 def is_spared(book, numbers, partners):

@@ -41,6 +41,13 @@ def is_row(value):
     return is_listed(value) and all([is_integer(item) for item in value])
 
 
+def are_numbers(value, many):
+    """Whether it is a list or tuple of ascending numbers below many, perhaps none."""
+    if not is_row(value) or not all([is_within(number, 0, many - 1) for number in value]):
+        return False
+    return all([value[at - 1] < value[at] for at in range(1, len(value))])
+
+
 def first_twice(values):
     """The first value that equals one ahead of it, None if there is none."""
     seen = set()

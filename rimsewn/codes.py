@@ -39,7 +39,8 @@ def numbered_from(skin, side):
     at = 0
     while at < len(order):
         mate = skin.mates[order[at]]
-        if mate // skin.turn not in reached:
+        # A free side has no mate, and leads to no further face.
+        if mate is not None and mate // skin.turn not in reached:
             reached[mate // skin.turn] = True
             order.extend(turn_from(skin, mate))
         at += 1
@@ -47,14 +48,45 @@ def numbered_from(skin, side):
 
 
 def row_of(skin, order):
-    """The row of mates of a numbering, told by its order of sides."""
+    """The row of mates of a numbering, told by its order of sides; -1 for a free side."""
     number_of = {side: number for number, side in enumerate(order)}
-    return tuple([number_of[skin.mates[side]] for side in order])
+    return tuple([number_of.get(skin.mates[side], -1) for side in order])
 
 
 def row_from(skin, side):
     """The row of mates of the numbering from a side."""
     return row_of(skin, numbered_from(skin, side))
+
+
+def lesser_row(skin, first, best):
+    """The row of mates of the numbering from a side if it is less than the best one, otherwise None."""
+    order = turn_from(skin, first)
+    number_of = {side: number for number, side in enumerate(order)}
+    row = []
+    less = False
+    while len(row) < len(order):
+        mate = skin.mates[order[len(row)]]
+        if mate is not None and mate not in number_of:
+            for side in turn_from(skin, mate):
+                number_of[side] = len(order)
+                order.append(side)
+        number = number_of.get(mate, -1)
+        # Most numberings are seen to be no less after a few sides.
+        if not less and number > best[len(row)]:
+            return None
+        less = less or number < best[len(row)]
+        row.append(number)
+    return tuple(row) if less else None
+
+
+def least_row(skin):
+    """The least of the rows of mates of the numberings from all sides, and the least side from which it comes."""
+    best, first = row_from(skin, 0), 0
+    for side in range(1, skin.sides):
+        row = lesser_row(skin, side, best)
+        if row is not None:
+            best, first = row, side
+    return best, first
 
 
 def mates_from(body, side):
@@ -67,7 +99,7 @@ def mates_from(body, side):
 def code_of(body):
     """The code: the least of the rows of mates."""
     need_body(body, "body")
-    return min([row_from(body.skin, side) for side in range(body.skin.sides)])
+    return least_row(body.skin)[0]
 
 
 def skin_of_row(kind, faces, row):

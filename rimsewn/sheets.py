@@ -7,6 +7,12 @@ from rimsewn.skins import Skin, need_skin
 from rimsewn.texts import words_of
 
 
+def need_edge(edge, many):
+    """Refuses what is none of so many edges."""
+    if not is_within(edge, 0, many - 1):
+        raise NoEdge(edge)
+
+
 def need_flat(skin):
     """Refuses a skin that is no sheet."""
     if pieces(skin) != 1:
@@ -43,8 +49,7 @@ class Sheet:
 
     def put_on(self, edge):
         """A Sheet with one more face, joined to the edge by its side 0."""
-        if not is_within(edge, 0, len(self) - 1):
-            raise NoEdge(edge)
+        need_edge(edge, len(self))
         seam = (self.rim[edge], self.skin.sides)
         return Sheet(Skin(self.kind, self.faces + 1, self.skin.seams + (seam,)))
 

@@ -3,7 +3,7 @@
 import unittest
 
 from plain import ODD_VALUES, raised
-from rimsewn.checks import first_twice, is_integer, is_kind, is_name, is_row, is_within
+from rimsewn.checks import are_numbers, first_twice, is_integer, is_kind, is_name, is_row, is_within
 from rimsewn.errors import SewError
 from rimsewn.grids import full_of, sides_of
 
@@ -53,6 +53,14 @@ class ChecksTest(unittest.TestCase):
         for value in (None, 1, "12", b"12", {1: 2}, {1}, range(3), [True], (1, False), [None], [[1]], [1.0], ["1"],
                       SewError(1), AnyEqual()):
             self.assertIs(is_row(value), False)
+
+    def test_ascending_numbers(self):
+        for value in ([], (), [0], (0, 1, 2), [2, 4]):
+            self.assertIs(are_numbers(value, 5), True)
+        for value in ([5], [-1], [1, 1], [2, 1], [0, 1, 0], [True], [0, 1.0], ["0"], None, "01", {0: 1}, [[0]], [10 ** 30]):
+            self.assertIs(are_numbers(value, 5), False)
+        self.assertIs(are_numbers([], 0), True)
+        self.assertIs(are_numbers([0], 0), False)
 
     def test_first_twice(self):
         self.assertIsNone(first_twice([]))

@@ -9,7 +9,7 @@ from plain import ODD_VALUES, raised
 from plain_bodies import all_renamings, is_plain_renaming, plain_code, plain_row
 from rimsewn.bodies import Body
 from rimsewn.boxes import box
-from rimsewn.codes import Renaming, Unlike, alike_by_faces, code_of, first_form, mates_from
+from rimsewn.codes import Renaming, Unlike, alike_by_faces, code_of, first_form, least_row, mates_from
 from rimsewn.listed import bodies_of
 from rimsewn.turnings import mirrors, turnings
 
@@ -33,6 +33,11 @@ class CodesTest(unittest.TestCase):
             self.assertEqual([mates_from(body, side) for side in range(body.skin.sides)], rows)
             self.assertEqual(code_of(body), min(rows))
             self.assertIsInstance(code_of(body), tuple)
+
+    def test_the_side_of_the_least_row(self):
+        for body in small_bodies():
+            rows = [plain_row(body, side) for side in range(body.skin.sides)]
+            self.assertEqual(least_row(body.skin), (min(rows), rows.index(min(rows))))
 
     def test_first_forms(self):
         for body in list(small_bodies()) + [drawn_body("square", 9, 2), drawn_body("triangle", 10, 2)]:

@@ -44,6 +44,25 @@ FUNCTIONS = {
     "boxes": ["box(a, b, c)", "boxes_of(faces)"],
     "plates": ["doubled(sheet)", "plate(body)"],
     "named": ["named(body)"],
+    "check_kinds": ["shows_plate(body, value)", "shows_named(body, value)"],
+    "cuts": ["idle(cut)", "pared(cut)", "cuts(body)"],
+    "opened": ["opened(cut)", "closing(cut)", "cut_of(sheet, nesting)"],
+    "treecounts": ["spanning(body)", "hanging(body)", "spanning_with(body, seam)"],
+    "fewest": ["fewest_cut(body)"],
+    "check_cuts": ["shows_fewest(body, value)"],
+    "made": ["code_of_sheet(sheet)", "made(sheet)", "makes(sheet, body)"],
+    "common": ["sheets_of(body)", "common_sheet(one, other)", "common_codes(one, other)"],
+    "several": ["joined(one, edge, other, other_edge)", "codes_of_all(sheets)"],
+    "check_common": ["shows_makes(sheet, body, value)", "shows_common(one, other, value)"],
+    "exchanges": ["exchanged(nesting, one, other)", "exchanges(nesting)", "rings(one, other)", "least_exchanges(one, other)",
+                  "sewn_exchanges(rim, nesting)", "like_exchanges(rim, nesting)"],
+    "ways": ["way(rim, one, other)", "classes(rim)"],
+    "check_ways": ["shows_way(rim, one, other, value)"],
+    "grown": ["widened(sheet, edge)", "lasting(sheet, nesting, edge)"],
+    "desk_lines": ["read_line(line)"],
+    "desk_deeds": ["changed(table, line)"],
+    "desk_asks": ["answer_of(table, line)"],
+    "stories": ["replay(lines)", "parting(one, other)", "merged(one, other)"],
 }
 CLASSES = {
     "papers": {"Paper": "(word, *parts)", "Denial": "(word, *parts)"},
@@ -65,6 +84,13 @@ CLASSES = {
     "overlays": {"Overlay": "(corner, vector, other, its)", "Apart": "(corner, vector, failings)"},
     "plates": {"Plate": "(overlay)", "NoPlate": "(corner, vector, failings)"},
     "named": {"Boxed": "(sides, overlay)", "Other": "(aparts, noplate)"},
+    "cuts": {"Cut": "(body, seams)"},
+    "fewest": {"Fewest": "(seams, rows)"},
+    "made": {"NotMade": "(codes)"},
+    "common": {"Common": "(one, other, sides)", "NoCommon": "(ones, others)"},
+    "ways": {"Way": "(rows)", "Parted": "(rows)"},
+    "tables": {"Table": "(things=(), hand=None, facts=())"},
+    "desk": {"Desk": "()"},
 }
 SAYING = ["holds(rim, nesting)", "__invert__()", "__eq__(other)", "__str__()"]
 METHODS = {
@@ -81,6 +107,9 @@ METHODS = {
     "Joined": SAYING, "Meet": SAYING, "Bears": SAYING, "Tips": SAYING, "Places": SAYING, "Not": SAYING,
     "Body": ["place_of(corner)", "mirrored()", "renamed(faces, shifts)", "__eq__(other)", "__str__()", "read(text)"],
     "Book": ["__len__()", "with_fact(saying)", "without(numbers)", "keeps(nesting)", "__eq__(other)"],
+    "Cut": ["__len__()", "__eq__(other)"],
+    "Table": ["thing(name)", "__eq__(other)"],
+    "Desk": ["told(*lines)", "__call__(line)", "tried(*lines)", "undo()", "redo()", "twin()", "__len__()", "__contains__(value)", "__eq__(other)"],
 }
 STATIC = ("single", "of", "read")
 
@@ -122,6 +151,22 @@ class InterfaceTest(unittest.TestCase):
                         self.assertEqual(method + signature(held.__func__), row)
                     else:
                         self.assertEqual(method + signature(held).replace("(self, ", "(").replace("(self)", "()"), row)
+
+    def test_attributes(self):
+        from rimsewn.bodies import Body
+        from rimsewn.cuts import Cut
+        from rimsewn.desk import Desk
+        from rimsewn.tables import Table
+        cut = Cut(Body.read("square 1 : 0 1 / 2 3"), [0, 1])
+        for value, names in ((cut, ("body", "seams", "reached", "ends")), (Table(), ("things", "hand", "facts", "names", "book")),
+                             (Desk(), ("table", "story"))):
+            for name in names:
+                self.assertTrue(hasattr(value, name))
+
+    def test_each_listed_module_is_here(self):
+        told = [module for module in FUNCTIONS] + list(CLASSES) + ["errors", "desk_lines"]
+        for module in told:
+            importlib.import_module("rimsewn." + module)
 
     def test_kinds(self):
         from rimsewn.grids import KINDS

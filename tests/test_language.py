@@ -20,7 +20,7 @@ __contains__""".split())
 BARRED = set("""register mro elements open input law typing enum namedtuple abstractmethod dataclass
 overload contextmanager Protocol Generic ABC eval exec globals locals vars dir id type os gc""".split())
 LIBRARY = {"heapq", "math", "itertools"}
-ITERATED = ("zip", "enumerate", "reversed", "items", "keys", "values")
+ITERATED = ("zip", "enumerate", "reversed", "items", "keys", "values", "combinations")
 TAKERS = ("list", "tuple", "dict", "sorted", "sum", "any", "all", "enumerate", "zip", "min", "max", "join")
 
 
@@ -197,6 +197,20 @@ class LanguageTest(unittest.TestCase):
                 if isinstance(node, (ast.FunctionDef, ast.ClassDef)):
                     for decorator in node.decorator_list:
                         self.assertIn(decorator.id, ("staticmethod", "classmethod", "property"), where)
+
+    def test_exponents(self):
+        for path, tree in trees():
+            for node in ast.walk(tree):
+                if isinstance(node, ast.BinOp) and isinstance(node.op, ast.Pow):
+                    self.assertIsInstance(node.right, ast.Constant, (path, node.lineno))
+
+    def test_caught_errors_are_own_or_of_missing_keys(self):
+        own = {node.name for path, tree in trees() for node in tree.body if isinstance(node, ast.ClassDef) and path.stem == "errors"}
+        for path, tree in trees():
+            for node in ast.walk(tree):
+                if isinstance(node, ast.ExceptHandler):
+                    caught = node.type.elts if isinstance(node.type, ast.Tuple) else [node.type]
+                    self.assertLessEqual({name.id for name in caught}, own | {"KeyError"}, (path, node.lineno))
 
     def test_sets(self):
         for path, tree in trees():

@@ -1,10 +1,15 @@
 """Papers and denials, and all classes of papers."""
 
+import importlib
+import pathlib
 import unittest
 
 from rimsewn.answers import Always, Both, Never
 from rimsewn.clashes import Clash
 from rimsewn.codes import Renaming, Unlike
+from rimsewn.common import Common, NoCommon
+from rimsewn.fewest import Fewest
+from rimsewn.made import NotMade
 from rimsewn.named import Boxed, Other
 from rimsewn.offers import Offer
 from rimsewn.overlays import Apart, Overlay
@@ -13,14 +18,17 @@ from rimsewn.plates import NoPlate, Plate
 from rimsewn.roads import Road
 from rimsewn.sewn import Sewing, Unsewn
 from rimsewn.walks import Came, Ended
+from rimsewn.ways import Parted, Way
 
+PACKAGE = pathlib.Path(__file__).resolve().parent.parent / "rimsewn"
 CLASSES = {Sewing: ("partners",), Unsewn: ("rows",), Always: ("rows",), Never: ("rows",), Both: ("one", "other"),
            Clash: ("numbers", "rows", "spared"), Offer: ("number", "counts"), Renaming: ("sides",),
            Unlike: ("code", "other"), Came: ("place", "corner", "sides"), Ended: ("place", "part"),
            Road: ("corner", "a", "b"), Overlay: ("corner", "vector", "other", "its"),
            Apart: ("corner", "vector", "failings"), Plate: ("overlay",), NoPlate: ("corner", "vector", "failings"),
-           Boxed: ("sides", "overlay"), Other: ("aparts", "noplate")}
-DENIALS = (Unsewn, Never, Unlike, Ended, Apart, NoPlate, Other)
+           Boxed: ("sides", "overlay"), Other: ("aparts", "noplate"), Fewest: ("seams", "rows"), NotMade: ("codes",),
+           Common: ("one", "other", "sides"), NoCommon: ("ones", "others"), Way: ("rows",), Parted: ("rows",)}
+DENIALS = (Unsewn, Never, Unlike, Ended, Apart, NoPlate, Other, NotMade, NoCommon, Parted)
 VALUES = (None, 0, True, "text", [1, [2, (3, [])]], [], {"a": [1]}, object())
 
 
@@ -81,6 +89,29 @@ class PapersTest(unittest.TestCase):
                     self.assertIs(bool(paper), made not in DENIALS)
                     self.assertIsInstance(paper, Paper)
                     self.assertEqual(isinstance(paper, Denial), made in DENIALS)
+
+    def test_all_classes_of_the_package_are_here(self):
+        found = set()
+        for path in PACKAGE.glob("*.py"):
+            module = importlib.import_module("rimsewn." + path.stem)
+            found |= {value for value in vars(module).values() if isinstance(value, type) and issubclass(value, Paper)}
+        self.assertEqual(found, set(CLASSES) | {Paper, Denial})
+
+    def test_equality_of_all_classes(self):
+        for made, names in CLASSES.items():
+            parts = [[number, [1]] for number in range(len(names))]
+            paper = made(*parts)
+            self.assertTrue(paper == made(*fixed(parts)))
+            self.assertTrue(paper == made(**dict(zip(names, parts))))
+            for at in range(len(names)):
+                bent = parts[:at] + [[at, [2]]] + parts[at + 1:]
+                self.assertFalse(paper == made(*bent))
+            for other in CLASSES:
+                if other != made and len(CLASSES[other]) == len(names):
+                    self.assertFalse(paper == other(*parts))
+            for value in (None, 0, "", tuple(paper.parts), Paper(paper.word, *parts), Denial(paper.word, *parts)):
+                self.assertFalse(paper == value)
+                self.assertFalse(value == paper)
 
     def test_parts_keep_their_order(self):
         for made, names in CLASSES.items():

@@ -13,14 +13,15 @@ class ReadmeTest(unittest.TestCase):
         for block in re.findall(r"```python\n(.*?)```", README.read_text(), re.DOTALL):
             for line in block.splitlines():
                 code, _, told = line.partition("  #")
-                exec(code, names)
                 try:
                     right = eval(told.strip().partition(": ")[0], {})
                 except (SyntaxError, NameError):
+                    exec(code, names)
                     continue
+                # Lines that a desk is told are run just once.
                 self.assertEqual(eval(code, names), right, line)
                 checked += 1
-        self.assertGreater(checked, 8)
+        self.assertGreater(checked, 24)
 
 
 if __name__ == "__main__":
