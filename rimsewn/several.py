@@ -4,7 +4,7 @@ from rimsewn.checks import is_listed, is_within
 from rimsewn.errors import BadSheet, Misfit, TooMany
 from rimsewn.made import code_of_sheet, codes_made
 from rimsewn.sheets import Sheet, need_edge
-from rimsewn.skins import MOST_FACES, Skin
+from rimsewn.skins import Skin
 
 FEWEST_SHEETS = 2
 MOST_SHEETS = 3
@@ -32,8 +32,6 @@ def joined(one, edge, other, other_edge):
     need_edge_of(other, other_edge, "other")
     if one.kind != other.kind:
         raise Misfit("kind")
-    if one.faces + other.faces > MOST_FACES:
-        raise TooMany("faces", MOST_FACES)
     return side_by_side(one, edge, other, other_edge)
 
 

@@ -2,6 +2,8 @@
 
 import random
 
+from rimsewn.papers import Denial, Paper
+
 ODD_VALUES = (None, True, False, -1, 1.0, "", "0", "square ", b"0", [], (), {}, [0], (0, 1), [None], object(), {0})
 
 
@@ -19,6 +21,14 @@ def raised(action, *args):
     except ValueError as error:
         return (type(error).__name__,) + tuple(vars(error).values())
     return None
+
+
+def impostors(paper):
+    """Values that look like a paper, but are none of its class."""
+    for bases in ((), (Paper,), (Denial,)):
+        other = type(type(paper).__name__, bases, {"__init__": lambda self: None})()
+        vars(other).update(vars(paper))
+        yield other
 
 
 def joined(groups, size):

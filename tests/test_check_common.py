@@ -4,7 +4,7 @@ import random
 import unittest
 
 from drawn import drawn_body, drawn_sheet, shuffled
-from plain import ODD_VALUES, partner_rows, raised
+from plain import ODD_VALUES, impostors, partner_rows, raised
 from plain_cuts import plain_cuts
 from plain_sheets import plain_made, plain_sewings_of, renames_skins
 from rimsewn.bodies import Body, sewn
@@ -31,6 +31,10 @@ class Common2(Common):
 
 
 class NoCommon2(NoCommon):
+    """A class below that of the right papers."""
+
+
+class Sewing2(Sewing):
     """A class below that of the right papers."""
 
 
@@ -110,7 +114,10 @@ class MakesTest(unittest.TestCase):
     def test_values_that_are_no_paper(self):
         body, other = sewn(SQUARE, Nesting([1, 0, 3, 2])), sewn(DOMINO, Nesting([1, 0, 3, 2, 5, 4]))
         codes = ((1, 0, 3, 2),)
-        for value in ODD_VALUES + ((1, 0, 3, 2), codes, Paper("sewing", (1, 0, 3, 2)), Denial("notmade", codes), NotMade2(codes), NotMade, Sewing):
+        self.assertIs(shows_makes(SQUARE, body, Sewing((1, 0, 3, 2))), True)
+        self.assertIs(shows_makes(SQUARE, other, NotMade(codes)), True)
+        for value in ODD_VALUES + ((1, 0, 3, 2), codes, Paper("sewing", (1, 0, 3, 2)), Sewing2((1, 0, 3, 2)), Denial("notmade", codes), NotMade2(codes),
+                                   NotMade, Sewing, *impostors(Sewing((1, 0, 3, 2))), *impostors(NotMade(codes))):
             self.assertIs(shows_makes(SQUARE, body, value), False)
             self.assertIs(shows_makes(SQUARE, other, value), False)
         for value in ODD_VALUES:
@@ -211,7 +218,8 @@ class CommonTest(unittest.TestCase):
                 parts[at] = value
                 if tuple(value) != paper.parts[at] if isinstance(value, (list, tuple)) else True:
                     self.assertIs(shows_common(one, other, Common(*parts)), False)
-        for value in ODD_VALUES + (paper.parts, Common2(*paper.parts), Paper("common", *paper.parts), Denial("common", *paper.parts), Common):
+        for value in ODD_VALUES + (paper.parts, Common2(*paper.parts), Paper("common", *paper.parts), Denial("common", *paper.parts), Common,
+                                   *impostors(paper)):
             self.assertIs(shows_common(one, other, value), False)
 
     def test_codes(self):
@@ -225,8 +233,8 @@ class CommonTest(unittest.TestCase):
                 self.assertIs(shows_common(one, other, NoCommon(bent, others)), False)
             for bent in bent_rows(others):
                 self.assertIs(shows_common(one, other, NoCommon(ones, bent)), False)
-            self.assertIs(shows_common(one, other, NoCommon2(ones, others)), False)
-            self.assertIs(shows_common(one, other, Denial("nocommon", ones, others)), False)
+            for value in (NoCommon2(ones, others), Denial("nocommon", ones, others), NoCommon, *impostors(NoCommon(ones, others))):
+                self.assertIs(shows_common(one, other, value), False)
 
     def test_codes_of_bodies_with_a_common_sheet(self):
         one, other = sewn(DOMINO, Nesting([3, 2, 1, 0, 5, 4])), sewn(DOMINO, Nesting([1, 0, 3, 2, 5, 4]))

@@ -4,7 +4,7 @@ import random
 import unittest
 
 from drawn import drawn_body, shuffled
-from plain import ODD_VALUES, raised
+from plain import ODD_VALUES, impostors, raised
 from plain_cuts import plain_fair, plain_leads, plain_refusal_of_cut, sets_of_seams
 from rimsewn.bodies import Body
 from rimsewn.check_cuts import shows_fewest
@@ -167,7 +167,7 @@ class ShowsFewestTest(unittest.TestCase):
     def test_values_that_are_no_paper(self):
         right = fewest_cut(ENVELOPE).parts
         self.assertIs(shows_fewest(ENVELOPE, Fewest(*right)), True)
-        for value in ODD_VALUES + (right, Fewest2(*right), Paper("fewest", *right), Denial("fewest", *right), Fewest):
+        for value in ODD_VALUES + (right, Fewest2(*right), Paper("fewest", *right), Denial("fewest", *right), Fewest, *impostors(Fewest(*right))):
             self.assertIs(shows_fewest(ENVELOPE, value), False)
         for value in [value for value in ODD_VALUES if value != right[0]]:
             self.assertIs(shows_fewest(ENVELOPE, Fewest(value, right[1])), False)

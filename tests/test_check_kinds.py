@@ -4,7 +4,7 @@ import random
 import unittest
 
 from drawn import drawn_body, shuffled
-from plain import ODD_VALUES, raised
+from plain import ODD_VALUES, impostors, raised
 from plain_layings import plain_failings, plain_starts, plain_tip_walks
 from rimsewn.bodies import Body
 from rimsewn.boxes import box, boxes_of
@@ -115,7 +115,8 @@ class PlateTest(unittest.TestCase):
                 parts = list(right.parts)
                 parts[at] = value
                 self.assertIs(shows_plate(PILLOW, Plate(Overlay(*parts))), list(parts) == list(right.parts) and not isinstance(value, bool))
-        for value in ODD_VALUES + (right, Plate2(right), Paper("plate", right), Denial("plate", right), Plate, Boxed((1, 1, 1), right)):
+        for value in ODD_VALUES + (right, Plate2(right), Paper("plate", right), Denial("plate", right), Plate, Boxed((1, 1, 1), right),
+                                   *impostors(Plate(right))):
             self.assertIs(shows_plate(PILLOW, value), False)
         # The identity is no mirrored overlay of a body that is no plate; of another body it is none at all.
         self.assertIs(shows_plate(TETRA, plate(PILLOW)), False)
@@ -199,7 +200,7 @@ class NoPlateTest(unittest.TestCase):
                 parts[at] = value
                 same = fixed_alike(parts, right)
                 self.assertIs(shows_plate(TETRA, NoPlate(*parts)), same)
-        for value in ODD_VALUES + (right, NoPlate2(*right), Paper("noplate", *right), Denial("noplate", *right), NoPlate):
+        for value in ODD_VALUES + (right, NoPlate2(*right), Paper("noplate", *right), Denial("noplate", *right), NoPlate, *impostors(NoPlate(*right))):
             self.assertIs(shows_plate(TETRA, value), False)
 
     def test_no_body(self):
@@ -242,7 +243,8 @@ class NamedTest(unittest.TestCase):
                 parts[at] = value
                 same = fixed_alike(parts, paper.overlay.parts)
                 self.assertIs(shows_named(body, Boxed((1, 1, 2), Overlay(*parts))), same)
-        for value in ODD_VALUES + (paper.parts, Boxed2(*paper.parts), Paper("boxed", *paper.parts), Denial("boxed", *paper.parts), Boxed):
+        for value in ODD_VALUES + (paper.parts, Boxed2(*paper.parts), Paper("boxed", *paper.parts), Denial("boxed", *paper.parts), Boxed,
+                                   *impostors(paper)):
             self.assertIs(shows_named(body, value), False)
 
     def test_other_right_overlays_onto_the_box(self):
@@ -287,9 +289,11 @@ class NamedTest(unittest.TestCase):
                         (Apart(first.corner, (0, 1), first.failings),) + rest]
                 for its in bent:
                     self.assertIs(shows_named(body, Other(its, noplate)), False)
-                for its in (None, plate(PILLOW), noplate.parts, NoPlate2(*noplate.parts), NoPlate(noplate.corner, noplate.vector, ()), aparts[0]):
+                for its in (None, plate(PILLOW), *impostors(noplate), noplate.parts, NoPlate2(*noplate.parts), NoPlate(noplate.corner, noplate.vector, ()), aparts[0]):
                     self.assertIs(shows_named(body, Other(aparts, its)), False)
-                for value in (paper.parts, Other2(*paper.parts), Denial("other", *paper.parts), Paper("other", *paper.parts), Other):
+                for its in impostors(first):
+                    self.assertIs(shows_named(body, Other((its,) + rest, noplate)), False)
+                for value in (paper.parts, Other2(*paper.parts), Denial("other", *paper.parts), Paper("other", *paper.parts), Other, *impostors(paper)):
                     self.assertIs(shows_named(body, value), False)
         self.assertGreater(min(seen.values()), 1)
 

@@ -3,7 +3,7 @@
 import random
 import unittest
 
-from plain import ODD_VALUES, partner_rows, plain_sewings, raised, sums_of
+from plain import ODD_VALUES, impostors, partner_rows, plain_sewings, raised, sums_of
 from plain_ways import plain_beside, plain_classes, sewings_beside, some_rims, steps_from
 from rimsewn.check_ways import shows_way
 from rimsewn.nestings import Nesting
@@ -182,7 +182,9 @@ class OthersTest(unittest.TestCase):
         for value in ODD_VALUES + (rows, lone, Way2(rows), Paper("way", rows), Denial("way", rows), Way, Parted(rows), Parted2(rows), Denial("parted", lone)):
             self.assertIs(shows_way(ELBOW, BEGIN, END, value), False)
             self.assertIs(shows_way(ELBOW, LONE, END, value), False)
-        self.assertIs(shows_way(ELBOW, LONE, END, Parted2(lone)), False)
+        for value in (Parted2(lone), *impostors(Parted(lone)), *impostors(Way(rows))):
+            self.assertIs(shows_way(ELBOW, LONE, END, value), False)
+            self.assertIs(shows_way(ELBOW, BEGIN, END, value), False)
         for value in ODD_VALUES + ("rows", {0: rows}, [rows], [None], [[]]):
             self.assertIs(shows_way(ELBOW, BEGIN, END, Way(value)), False)
             self.assertIs(shows_way(ELBOW, LONE, END, Parted(value)), False)

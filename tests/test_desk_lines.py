@@ -108,6 +108,17 @@ class LinesTest(unittest.TestCase):
         for line in LINES:
             check_reading(self, Line.read, bent_texts(line, BENT) + [line], can_stand, lacks, is_value)
 
+    def test_words_exchanged(self):
+        texts = []
+        for line in LINES:
+            words = line.split(" ")
+            for one in range(len(words)):
+                for other in range(one):
+                    bent = list(words)
+                    bent[one], bent[other] = words[other], words[one]
+                    texts.append(" ".join(bent))
+        check_reading(self, Line.read, texts, can_stand, lacks, is_value)
+
     def test_first_words_exchanged(self):
         texts = sorted({" ".join([first] + line.split(" ")[1:]) for line in LINES for first in SHAPES} | set(SHAPES))
         check_reading(self, Line.read, texts + ["", " ", "Put a square 1 :", "puts a", "name", "PUT", "take  a", " take a", "take a ", "road a 0 1 2"],

@@ -4,7 +4,7 @@ import random
 import unittest
 
 from plain import ODD_VALUES, corner_places, partner_rows, plain_kind, plain_sewings, raised, random_amounts, random_row, sewn_amounts, sums_of
-from plain_ways import crossing, other_way, plain_beside
+from plain_ways import crossing, other_way, plain_beside, steps_from
 from rimsewn.exchanges import exchanged, exchanges, least_exchanges, like_exchanges, rings, sewn_exchanges
 from rimsewn.nestings import Nesting
 from rimsewn.rims import Rim
@@ -134,13 +134,7 @@ class RingsTest(unittest.TestCase):
             rows = partner_rows(many)
             beside = {row: plain_beside(row) for row in rows}
             for start in rows:
-                steps = {start: 0}
-                waiting = [start]
-                for row in waiting:
-                    for other in beside[row]:
-                        if other not in steps:
-                            steps[other] = steps[row] + 1
-                            waiting.append(other)
+                steps = steps_from(beside, start)
                 self.assertEqual(len(steps), len(rows))
                 for row, least in steps.items():
                     self.assertEqual(least_exchanges(Nesting(start), Nesting(row)), least)
